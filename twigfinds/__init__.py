@@ -1,0 +1,1 @@
+"""Twigfinds: little trees found in trees."""
