@@ -109,6 +109,12 @@ def share_a_list(*things):
     return len(marks) != len(set(marks))
 
 
+def holds_a_list_of(told, handed):
+    """Whether a list within what is told is one of those within what was handed in."""
+    marks = {id(one) for one in lists_in(handed)}
+    return any(id(one) in marks for one in lists_in(told))
+
+
 def shatter(thing):
     """Change every list within a told thing, as an asker may."""
     for one in lists_in(thing):

@@ -86,3 +86,79 @@ class Pair:
         if self.letters[0] != self.great_letters[v]:
             return None
         return next(self.findings(way, (v,)), None)
+
+
+def shows(little, great, paper):
+    """The words of [9] of a list of tuples of two whole numbers and a list of whole numbers."""
+    letters = [letter for letter, path, part in parts(little)]
+    great_letters = [letter for letter, path, part in parts(great)]
+    if paper != sorted(paper) or len({(i, v) for i, v, some in paper}) != len(paper):
+        return False
+    for i, v, some in paper:
+        if i not in range(len(letters)) or v not in range(len(great_letters)):
+            return False
+        if some != sorted(set(some)) or not set(some) <= set(children(little, i)):
+            return False
+        unlike = letters[i] != great_letters[v]
+        if not (unlike and some == [] or some != [] and has_too_few_spots(great, paper, v, some)):
+            return False
+    return all(any(entry[:2] == (0, v) for entry in paper) for v in range(len(great_letters)))
+
+
+def has_too_few_spots(great, paper, v, some):
+    many = 0
+    for w in children(great, v):
+        if any(all(entry[:2] != (c, w) for entry in paper) for c in some):
+            many += 1
+    return many < len(some)
+
+
+def prunings(tree):
+    """Trees that lie at part 0 by row, each child with what is beneath it kept or left out."""
+    letter, kids = tree
+    choices = [[None] + list(prunings(kid)) for kid in kids]
+    for chosen in itertools.product(*choices):
+        yield (letter, [kid for kid in chosen if kid is not None])
+
+
+def most_in_two(way, one, other):
+    """The most parts of a tree that lies at part 0 of both, by trying all that do in one of them.
+
+    By heap the order of children is free, so it is enough to try one order.
+    """
+    sizes = [len(parts(tree)) for tree in prunings(one) if Pair(tree, other).first_at(way, 0) is not None]
+    return max(sizes, default=0)
+
+
+def lies_at_top(way, little, great):
+    """Whether it lies at part 0 by row or heap, for little trees too great for trying all."""
+    if little[0] != great[0]:
+        return False
+    fits = [[at for at, spot in enumerate(great[1]) if lies_at_top(way, kid, spot)] for kid in little[1]]
+    return in_order(fits) if way == "row" else without_order(fits)
+
+
+def in_order(fits):
+    last = -1
+    for spots in fits:
+        behind = [at for at in spots if at > last]
+        if not behind:
+            return False
+        last = behind[0]
+    return True
+
+
+def without_order(fits):
+    """Whether each kid gets a spot of its own, by one kid after the other making room."""
+    taken = {}
+
+    def settle(kid, tried):
+        for at in fits[kid]:
+            if at not in tried:
+                tried.add(at)
+                if at not in taken or settle(taken[at], tried):
+                    taken[at] = kid
+                    return True
+        return False
+
+    return all(settle(kid, set()) for kid in range(len(fits)))

@@ -19,6 +19,22 @@ def pairs(seed, many, little_sizes, great_sizes, letters=("a", "ab", "abc")):
         yield (random_tree(rng, rng.choice(little_sizes), some), random_tree(rng, rng.choice(great_sizes), some))
 
 
+def nearly(finding, size):
+    """A finding with one number otherwise, two exchanged, one more or fewer."""
+    for at in range(len(finding)):
+        for spot in range(size):
+            yield finding[:at] + [spot] + finding[at + 1:]
+        for other in range(at):
+            changed = list(finding)
+            changed[at], changed[other] = changed[other], changed[at]
+            yield changed
+        yield finding[:at] + finding[at + 1:]
+        yield finding[:at] + [finding[at]] + finding[at:]
+    for spot in range(size):
+        yield finding + [spot]
+    yield []
+
+
 class ByHand(unittest.TestCase):
     def places(self, little, great):
         return [places_of(way, read(little), read(great)) for way in WAYS]
@@ -122,21 +138,6 @@ class OneByOne(unittest.TestCase):
 
 
 class NearlyFindings(unittest.TestCase):
-    def nearly(self, finding, size):
-        """A finding with one number otherwise, two exchanged, one more or fewer."""
-        for at in range(len(finding)):
-            for spot in range(size):
-                yield finding[:at] + [spot] + finding[at + 1:]
-            for other in range(at):
-                changed = list(finding)
-                changed[at], changed[other] = changed[other], changed[at]
-                yield changed
-            yield finding[:at] + finding[at + 1:]
-            yield finding[:at] + [finding[at]] + finding[at:]
-        for spot in range(size):
-            yield finding + [spot]
-        yield []
-
     def test_nearly(self):
         seen = 0
         for little, great in pairs("nearly", 150, (1, 2, 4, 7), (8, 15, 40), ("a", "ab")):
@@ -147,7 +148,7 @@ class NearlyFindings(unittest.TestCase):
                     continue
                 seen += 1
                 self.assertIs(is_finding(way, little, great, finding), True)
-                for spots in self.nearly(finding, size_of(great)):
+                for spots in nearly(finding, size_of(great)):
                     so = pair.is_finding(way, spots)
                     self.assertIs(is_finding(way, little, great, spots), so, (way, little, great, spots))
         self.assertGreater(seen, 200)

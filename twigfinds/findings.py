@@ -17,9 +17,20 @@ def table_of(way, little, great):
     return Table(layout, ground)
 
 
+def many_at(way, little, great, part):
+    """How many findings of little have it at that part of great."""
+    layout, ground = laid_on_ground(way, little, great)
+    ground.great.check_part(part)
+    return Table(layout, ground).rows[0][part]
+
+
 def is_finding(way, little, great, thing):
     """Whether anything at all is a finding of little in great."""
     layout, ground = laid_on_ground(way, little, great)
+    return is_found(layout, ground, thing)
+
+
+def is_found(layout, ground, thing):
     if not is_list_of_parts(layout, ground.great, thing):
         return False
     return all(stands_well(layout, ground, thing, i) for i in range(len(thing)))
@@ -51,15 +62,12 @@ def places_of(way, little, great):
 
 def lies_at(way, little, great, part):
     """Whether little lies at that part of great."""
-    layout, ground = laid_on_ground(way, little, great)
-    ground.great.check_part(part)
-    return Table(layout, ground).rows[0][part] > 0
+    return many_at(way, little, great, part) > 0
 
 
 def first_finding(way, little, great):
     """The first finding, as lists are in order, or None."""
     table = table_of(way, little, great)
-    places = table.places()
-    if not places:
+    if table.how_many() == 0:
         return None
-    return table.first_at(0, places[0])
+    return table.finding_by(0)

@@ -28,6 +28,9 @@ class Ground:
         self.ordered, self.far = WAYS[way]
         self.great = great
 
+    def all_spots(self):
+        return list(range(len(self.great.letters)))
+
     def spots_under(self, part):
         """The spots for the children of what is placed on part, rising."""
         if self.far:
@@ -48,11 +51,13 @@ class Table:
     rows[i][v] is reckoned once, from the rows of the children of i. Spots that
     children share out are never beneath one another, so what goes beneath one
     of them is free of what goes beneath the others, and the numbers multiply.
+    known keeps what beside() has reckoned, for the findings told later.
     """
 
     def __init__(self, little, ground):
         self.little = little
         self.ground = ground
+        self.known = {}
         self.rows = [[] for letter in little.letters]
         for i in reversed(range(len(little.letters))):
             self.rows[i] = self.reckoned_row(i)
@@ -71,6 +76,8 @@ class Table:
         steps[at] tells, of each set of kids (as bits), how often just these
         have been placed when the spot number at is the next one to be free.
         """
+        if not kids:
+            return 1
         steps = [{} for step in range(len(spots) + 1)]
         steps[0][0] = 1
         for at, spot in enumerate(spots):
@@ -108,25 +115,59 @@ class Table:
         """The parts at which the little tree lies, rising."""
         return [v for v, many in enumerate(self.rows[0]) if many > 0]
 
-    def first_at(self, i, v):
-        """The first finding, as lists are in order, of part i at v, where it lies."""
-        finding = [v]
-        kids = self.little.kids[i]
-        spots = self.ground.spots_under(v)
-        for at, kid in enumerate(kids):
-            spot = self.first_spot(kids[at:], spots)
-            finding.extend(self.first_at(kid, spot))
-            spots = self.ground.left_beside(spot, spots)
-        return finding
+    def how_many(self):
+        """How many findings there are."""
+        return sum(self.rows[0])
 
-    def first_spot(self, kids, spots):
-        """The first spot for the first kid that leaves room for the other kids."""
-        first, *others = kids
-        for spot in spots:
-            left = self.ground.left_beside(spot, spots)
-            if self.rows[first][spot] > 0 and self.placements(others, left) > 0:
-                return spot
-        return None
+    def finding_by(self, number):
+        """The finding of that number, from 0 on, as lists are in order."""
+        return self.placed_by([0], self.ground.all_spots(), number)
+
+    def placed_by(self, kids, spots, number):
+        """What is placed, as lists are in order, where the kids go on the spots in the way of that number."""
+        placed = []
+        for at, kid in enumerate(kids):
+            spot, number = self.spot_by(kids[at:], spots, number)
+            inner, number = divmod(number, self.beside(kids[at:], spot, spots))
+            placed.append(spot)
+            placed.extend(self.placed_by(self.little.kids[kid], self.ground.spots_under(spot), inner))
+            spots = self.ground.left_beside(spot, spots)
+        return placed
+
+    def spot_by(self, kids, spots, number):
+        """The first kid's spot in the way of that number, and which one of the ways with it there that is."""
+        at = 0
+        while number >= self.share(kids, spots[at], spots):
+            number -= self.share(kids, spots[at], spots)
+            at += 1
+        return spots[at], number
+
+    def number_of(self, finding):
+        """The number of a finding, the way back from finding_by."""
+        return self.number_placed([0], self.ground.all_spots(), finding)
+
+    def number_placed(self, kids, spots, finding):
+        number = 0
+        for at, kid in enumerate(kids):
+            spot = finding[kid]
+            number += sum(self.share(kids[at:], other, spots) for other in spots if other < spot)
+            inner = self.number_placed(self.little.kids[kid], self.ground.spots_under(spot), finding)
+            number += inner * self.beside(kids[at:], spot, spots)
+            spots = self.ground.left_beside(spot, spots)
+        return number
+
+    def share(self, kids, spot, spots):
+        """In how many of the ways in which the kids go on the spots the first one is on spot."""
+        if self.rows[kids[0]][spot] == 0:
+            return 0
+        return self.rows[kids[0]][spot] * self.beside(kids, spot, spots)
+
+    def beside(self, kids, spot, spots):
+        """In how many ways the other kids go on what the first one on spot leaves; reckoned once."""
+        key = (kids[0], spot, tuple(spots))
+        if key not in self.known:
+            self.known[key] = self.placements(kids[1:], self.ground.left_beside(spot, spots))
+        return self.known[key]
 
 
 def add_all(before, behind):

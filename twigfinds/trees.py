@@ -3,6 +3,11 @@
 from twigfinds.errors import NoPart, NoTree
 
 
+def is_whole(thing):
+    """Whether it is a whole number; a truth is none."""
+    return isinstance(thing, int) and not isinstance(thing, bool)
+
+
 def is_letter(thing):
     return isinstance(thing, str) and len(thing) == 1 and "a" <= thing <= "z"
 
@@ -44,9 +49,7 @@ class Layout:
         self.lasts[part] = len(self.letters) - 1
 
     def has_part(self, thing):
-        if not isinstance(thing, int) or isinstance(thing, bool):
-            return False
-        return 0 <= thing < len(self.letters)
+        return is_whole(thing) and 0 <= thing < len(self.letters)
 
     def check_part(self, thing):
         if not self.has_part(thing):
