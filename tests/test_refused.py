@@ -8,11 +8,13 @@ from twigfinds.counted import all_findings, count_at, count_findings, finding_by
 from twigfinds.errors import NoFinding, NoNumber, NoPart, NoTree, NoWay, TooMany, TwigError
 from twigfinds.findings import first_finding, is_finding, lies_at, places_of
 from twigfinds.pairings import nowhere_paper, nowhere_shows
+from twigfinds.texts import show_tree
 from twigfinds.trees import above, children_at, is_tree, letter_at, part_at, size_of
+from twigfinds.watch import Watch
 
 AT_A_PART = (letter_at, part_at, above, children_at)
 # What is asked of a way and two trees, alone or with a thing behind them.
-OF_TWO = (places_of, first_finding, count_findings, all_findings, common_tree, common_size)
+OF_TWO = (places_of, first_finding, count_findings, all_findings, common_tree, common_size, Watch)
 OF_TWO_AND_ONE_MORE = (is_finding, lies_at, count_at, finding_by, number_of)
 # What each refuses with behind NoTree and NoWay.
 THEN = {lies_at: NoPart, count_at: NoPart, finding_by: NoNumber, number_of: NoFinding}
@@ -75,6 +77,7 @@ class NoTrees(unittest.TestCase):
     def test_refused_of_one_tree(self):
         for thing in no_trees():
             self.assertRaises(NoTree, size_of, thing)
+            self.assertRaises(NoTree, show_tree, thing)
             for function in AT_A_PART:
                 self.assertRaises(NoTree, function, thing, 0)
 
@@ -152,6 +155,9 @@ class EachRefusal(unittest.TestCase):
                                         (NoTree, nowhere_paper, (tree, None)),
                                         (NoTree, nowhere_shows, (None, tree, [])),
                                         (NoTree, common_tree, ("row", tree, None)),
+                                        (NoTree, show_tree, (None,)),
+                                        (NoTree, Watch, (None, tree, None)),
+                                        (NoWay, Watch, (None, tree, tree)),
                                         (NoWay, common_size, ("farrow", tree, tree))):
             with self.assertRaises(TwigError) as caught:
                 function(*args)
